@@ -1,0 +1,171 @@
+"""The document told again, moment by moment and as plainly as can be, to compare the program with."""
+
+
+def whole(thing, low=None, high=None):
+    return type(thing) is int and (low is None or low <= thing) and (high is None or thing <= high)
+
+
+def name(thing):
+    return type(thing) is str and len(thing) in range(1, 9) and set(thing) <= set("abcdefghijklmnopqrstuvwxyz")
+
+
+def row(thing, *tests):
+    return type(thing) is tuple and len(thing) == len(tests) and all(test(part) for test, part in zip(tests, thing))
+
+
+def word(*texts):
+    return lambda thing: type(thing) is str and thing in texts
+
+
+def between(low, high):
+    return lambda thing: whole(thing, low, high)
+
+
+def way(thing):
+    return row(thing, name, word("slope", "lift", "path"), name, name, between(0, 1000000), between(0, 1000000))
+
+
+def ways(thing):
+    if type(thing) is not tuple or len(thing) not in range(1, 13) or not all(way(part) for part in thing):
+        return False
+    return len({part[0] for part in thing}) == len(thing)
+
+
+def hill(thing):
+    return row(thing, ways, name, between(1, 1000000))
+
+
+def rule(of, thing):
+    names = word(*[part[0] for part in of[0]])
+    return (
+        row(thing, word("hours"), between(0, 1000001), between(0, 1000001)) and thing[1] < thing[2]
+        or row(thing, word("least", "most"), name, whole)
+        or row(thing, word("looked"), between(1, 1000000))
+        or row(thing, word("with"), names)
+        or row(thing, word("never"))
+    )
+
+
+def rules(of, thing):
+    return type(thing) is tuple and len(thing) <= 6 and all(rule(of, part) for part in thing)
+
+
+def page(of, thing):
+    ahead = (between(0, 999999), between(0, of[2]))
+    slopes = word(*[part[0] for part in of[0] if part[1] == "slope"])
+    names = word(*[part[0] for part in of[0]])
+    return (
+        row(thing, word("read"), *ahead, name, whole)
+        or row(thing, word("look"), *ahead, slopes)
+        or row(thing, word("rule"), *ahead, names, lambda part: rules(of, part))
+    )
+
+
+def book(of, thing):
+    if type(thing) is not tuple or not all(page(of, part) for part in thing):
+        return False
+    pairs = list(zip(thing, thing[1:]))
+    rising = all((one[2], one[1]) < (other[2], other[1]) for one, other in pairs)
+    return rising and len({part[1] for part in thing}) == len(thing)
+
+
+def last(pages, kind, of, t):
+    """The last page of the kind, whatever the order of the pages; None without one."""
+    those = [part for part in pages if part[0] == kind and part[3] == of and part[2] <= t]
+    return max(those, key=lambda part: (part[2], part[1]), default=None)
+
+
+def rules_of(pages, w, t):
+    found = last(pages, "rule", w, t)
+    return found[4] if found else ()
+
+
+def holds(of, pages, w, one, t, names):
+    kinds = {part[0]: part[1] for part in of[0]}
+    if one[0] == "hours":
+        return one[1] <= t and t <= one[2] - 1
+    if one[0] in ("least", "most"):
+        read = last(pages, "read", one[1], t)
+        return read is not None and (read[4] >= one[2] if one[0] == "least" else read[4] <= one[2])
+    if one[0] == "looked":
+        look = last(pages, "look", w, t)
+        return kinds[w] == "slope" and look is not None and t - look[2] < one[1]
+    return one[0] == "with" and one[1] in names
+
+
+def opened(of, pages, t):
+    names = set()
+    while True:
+        more = {
+            part[0] for part in of[0]
+            if all(holds(of, pages, part[0], one, t, names) for one in rules_of(pages, part[0], t))
+        }
+        if more == names:
+            return tuple(part[0] for part in of[0] if part[0] in names)
+        names = more
+
+
+def why(of, pages, w, t):
+    names = opened(of, pages, t)
+    for at, one in enumerate(rules_of(pages, w, t)):
+        if not holds(of, pages, w, one, t, names):
+            return at
+    return None
+
+
+def day(of, pages):
+    """The names open, moment by moment, from 0 to dark."""
+    return [opened(of, pages, t) for t in range(of[2] + 1)]
+
+
+def spans(days, w):
+    found = []
+    for t, names in enumerate(days):
+        if w in names:
+            if found and found[-1][1] == t:
+                found[-1] = (found[-1][0], t + 1)
+            else:
+                found.append((t, t + 1))
+    return tuple(found)
+
+
+def outlook(of, pages, days, w, t):
+    now = w in days[t]
+    others = [m for m in range(t + 1, of[2] + 1) if (w in days[m]) != now]
+    m = others[0] if others else None
+    if now:
+        return ("open", m, None if m is None else why(of, pages, w, m))
+    return ("shut", why(of, pages, w, t), m)
+
+
+def pace_of(part, goer):
+    return {"walker": part[4], "rider": part[5]}[goer]
+
+
+def arrivals(of, days, goer, place, t):
+    """By going on from moment to moment with all places where the goer may be."""
+    dark = of[2]
+    here = [set() for _ in range(dark + 1)]
+    here[t].add(place)
+    for m in range(t, dark + 1):
+        if m > t:
+            here[m] |= here[m - 1]
+        for part in of[0]:
+            end = m + pace_of(part, goer)
+            if part[2] in here[m] and end > m and end <= dark and part[0] in days[m]:
+                here[end].add(part[3])
+    spots = sorted(set().union(*here))
+    return tuple((spot, min(m for m in range(t, dark + 1) if spot in here[m])) for spot in spots)
+
+
+def end_of_walk(of, pages, goer, place, t, steps):
+    """Where and when a goer is who does these steps; None where a step can't be done."""
+    named = {part[0]: part for part in of[0]}
+    for w, m in steps:
+        part = named[w]
+        if part[2] != place or m < t or pace_of(part, goer) == 0 or w not in opened(of, pages, m):
+            return None
+        place, t = part[3], m + pace_of(part, goer)
+        if t > of[2]:
+            return None
+    return place, t
