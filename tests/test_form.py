@@ -9,13 +9,14 @@ import unittest
 FOLDER = pathlib.Path(__file__).resolve().parent.parent / "homeslopes"
 OWN_NAMES = set(
     "len range enumerate zip min max sum abs sorted reversed int str bool bytes list tuple dict set frozenset"
-    " isinstance ord repr any all divmod Exception ValueError TypeError KeyError IndexError LookupError ZeroDivisionError"
-    " ArithmeticError OverflowError RuntimeError NotImplementedError AttributeError StopIteration".split()
+    " isinstance ord repr any all divmod Exception ValueError TypeError KeyError IndexError LookupError"
+    " ZeroDivisionError ArithmeticError OverflowError RuntimeError NotImplementedError AttributeError"
+    " StopIteration".split()
 )
 METHODS = set(
     "append clear copy count endswith extend find get index insert isalnum isalpha isdigit islower isspace isupper"
-    " items join keys ljust lower lstrip partition pop remove replace reverse rfind rjust rpartition rsplit rstrip setdefault"
-    " split splitlines startswith strip update upper values zfill bit_length add discard sort".split()
+    " items join keys ljust lower lstrip partition pop remove replace reverse rfind rjust rpartition rsplit rstrip"
+    " setdefault split splitlines startswith strip update upper values zfill bit_length add discard sort".split()
 )
 WORDS = re.compile(
     r"\b(type|typing|typing_extensions|enum|Enum|IntEnum|StrEnum|Flag|IntFlag|Generic|Protocol|ABC|ABCMeta|namedtuple"
@@ -91,9 +92,12 @@ class Form(unittest.TestCase):
         for name, node in nodes(ast.Name):
             self.assertTrue(not hasattr(builtins, node.id) or node.id in OWN_NAMES, (name, node.id))
 
-    def test_methods(self):
+    def test_methods_and_values(self):
+        given = {node.attr for _, node in nodes(ast.Attribute) if isinstance(node.ctx, ast.Store)}
+        own = {row.name for _, node in nodes(ast.ClassDef) for row in node.body if isinstance(row, ast.FunctionDef)}
+        self.assertEqual(given & own, set())
         for name, node in nodes(ast.Attribute):
-            self.assertIn(node.attr, METHODS, (name, node.lineno))
+            self.assertIn(node.attr, METHODS | given | own, (name, node.lineno))
 
     def test_imports(self):
         drawn = {}
