@@ -17,6 +17,11 @@ def is_within(thing, low, high):
     return is_whole(thing) and low <= thing <= high
 
 
+def is_rising(things):
+    """Whether the names, numbers or tuples of such rise, each once."""
+    return list(things) == sorted(set(things))
+
+
 def is_name(thing):
     """Whether it is a name, of anything."""
     if not isinstance(thing, str) or not 1 <= len(thing) <= MOST_LETTERS:

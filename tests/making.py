@@ -5,6 +5,17 @@ import random
 POSTS = ("wind", "snow", "eagle")
 NAMES = ("eagle", "chair", "lane", "mouse", "hare", "gully", "ridge", "tow", "glade", "bowl", "spur", "draw")
 SPOTS = ("home", "top", "hut", "pass", "gate")
+UP = ("up", "lift", "home", "top", 0, 5)
+DOWN = ("down", "slope", "top", "home", 9, 3)
+LANE = ("lane", "path", "home", "hut", 4, 0)
+STAIR = ("stair", "path", "hut", "top", 6, 8)
+HILL = ((UP, DOWN, LANE, STAIR), "home", 30)
+NEVER = (("never",),)
+
+
+def hours(w, a, b, number=0):
+    """A page by which the way w is open from a to b - 1."""
+    return ("rule", number, 0, w, (("hours", a, b),))
 
 
 class Angry:
@@ -127,3 +138,23 @@ def stretched_rule(rule, k):
     if rule[0] == "looked":
         return ("looked", rule[1] * k)
     return rule
+
+
+def some_busy_hill(chance, dark, ways, spots=3):
+    """A hill of few places and quick ways, many of which lead home."""
+    here = SPOTS[:spots]
+    made = []
+    for name in NAMES[:ways]:
+        end = chance.choice(here + ("home",))
+        paces = [chance.choice((0, 1, 1, 2, 2, 3, 4)) for _ in range(2)]
+        made.append((name, chance.choice(("slope", "lift", "path")), chance.choice(here[1:]), end, paces[0], paces[1]))
+    return (tuple(made), "home", dark)
+
+
+def some_busy_cases(seed, many, most_dark=8, most_ways=6, most_pages=4):
+    """Tuples (chance, hill, pages) on small busy hills, each with a part of its ways ruled."""
+    chance = random.Random(seed)
+    for _ in range(many):
+        dark, ways, spots = chance.randint(2, most_dark), chance.randint(1, most_ways), chance.choice((2, 3, 4))
+        hill = some_busy_hill(chance, dark, ways, spots)
+        yield chance, hill, some_pages(chance, hill, chance.randint(0, most_pages))

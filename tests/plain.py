@@ -1,5 +1,7 @@
 """The document told again, moment by moment and as plainly as can be, to compare the program with."""
 
+import itertools
+
 
 def whole(thing, low=None, high=None):
     return type(thing) is int and (low is None or low <= thing) and (high is None or thing <= high)
@@ -169,3 +171,90 @@ def end_of_walk(of, pages, goer, place, t, steps):
         if t > of[2]:
             return None
     return place, t
+
+
+def spots_of(of):
+    return sorted({of[1]} | {spot for part in of[0] for spot in part[2:4]})
+
+
+def latest(of, days, goer):
+    """By asking the arrivals of each place at each moment."""
+    found = []
+    for spot in spots_of(of):
+        homing = [t for t in range(of[2] + 1) if of[1] in dict(arrivals(of, days, goer, spot, t))]
+        if homing:
+            found.append((spot, max(homing)))
+    return tuple(found)
+
+
+def departure(of, thing):
+    return row(thing, word(*[part[0] for part in of[0]]), between(0, of[2]))
+
+
+def shows_walk(of, pages, goer, place, t, to, m, thing):
+    if type(thing) is not tuple or not all(departure(of, part) for part in thing):
+        return False
+    last = end_of_walk(of, pages, goer, place, t, thing)
+    return last is not None and last[0] == to and last[1] <= m
+
+
+def bar_keeps(of, days, goer, kept):
+    """Whether nobody leaves the places of kept, moment by moment and way by way."""
+    for part in of[0]:
+        for m in range(kept.get(part[2], of[2] + 1), of[2] + 1):
+            end = m + pace_of(part, goer)
+            if end > m and part[0] in days[m] and end <= of[2]:
+                if part[3] not in kept or kept[part[3]] > end:
+                    return False
+    return True
+
+
+def shows_bar(of, days, goer, place, t, thing):
+    others = word(*[spot for spot in spots_of(of) if spot != of[1]])
+    if type(thing) is not tuple or not all(row(part, others, between(0, of[2])) for part in thing):
+        return False
+    spots = [part[0] for part in thing]
+    if any(one >= other for one, other in zip(spots, spots[1:])):
+        return False
+    return any(spot == place and m <= t for spot, m in thing) and bar_keeps(of, days, goer, dict(thing))
+
+
+class Game:
+    """Shuttings gone through moment by moment: at each one ways may be shut, then the goer waits or enters one."""
+
+    def __init__(self, of, days, goer):
+        self.of, self.days, self.goer = of, days, goer
+        self.known = {}
+
+    def wins(self, place, t, shut, left):
+        asked = (place, t, frozenset(shut), left)
+        if asked not in self.known:
+            self.known[asked] = self.wins_now(*asked)
+        return self.known[asked]
+
+    def wins_now(self, place, t, shut, left):
+        if t > self.of[2] or place == self.of[1]:
+            return t <= self.of[2]
+        others = [part for part in self.of[0] if part[0] not in shut]
+        if left > 0 and not all(self.wins(place, t, shut | {part[0]}, left - 1) for part in others):
+            return False
+        return self.wins(place, t + 1, shut, left) or any(
+            self.wins(part[3], t + pace_of(part, self.goer), shut, left)
+            for part in others
+            if part[2] == place and part[0] in self.days[t] and pace_of(part, self.goer) > 0
+        )
+
+    def latest(self, shut, left):
+        found = []
+        for spot in spots_of(self.of):
+            wins = [self.wins(spot, t, shut, left) for t in range(self.of[2] + 1)]
+            if wins != sorted(wins, reverse=True):
+                raise AssertionError("who is safe at a moment is so at each earlier one")
+            if wins[0]:
+                found.append((spot, sum(wins) - 1))
+        return tuple(found)
+
+    def rows(self, left):
+        names = sorted(part[0] for part in self.of[0])
+        tuples = [shut for many in range(left + 1) for shut in itertools.combinations(names, many)]
+        return tuple((shut, self.latest(shut, left - len(shut))) for shut in tuples)

@@ -8,18 +8,7 @@ from homeslopes.arriving import arrivals, walk
 from homeslopes.hills import places
 from homeslopes.pages import book_of
 from tests import plain
-from tests.making import SPOTS, some_cases, some_hill, some_pages, stretched
-
-NEVER = (("never",),)
-UP = ("up", "lift", "home", "top", 0, 5)
-DOWN = ("down", "slope", "top", "home", 9, 3)
-LANE = ("lane", "path", "home", "hut", 4, 0)
-STAIR = ("stair", "path", "hut", "top", 6, 8)
-HILL = ((UP, DOWN, LANE, STAIR), "home", 30)
-
-
-def hours(w, a, b, number=0):
-    return ("rule", number, 0, w, (("hours", a, b),))
+from tests.making import HILL, NEVER, SPOTS, hours, some_cases, some_hill, some_pages, stretched
 
 
 class Arrivals(unittest.TestCase):
