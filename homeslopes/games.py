@@ -4,27 +4,31 @@ from homeslopes.arriving import ways_to_go
 from homeslopes.homing import homeward, unbound
 
 
-def with_one_more(names, shut):
+def with_one_more(hill, shut):
     """The list of the rising tuples of the names shut already and one more."""
-    return [tuple(sorted(shut + (name,))) for name in names if name not in shut]
+    return [tuple(sorted(shut + (way[0],))) for way in hill[0] if way[0] not in shut]
 
 
 def with_more(hill, shut, left):
     """The list of the rising tuples of the names shut and at most left more, by how many, then as tuples sort."""
-    names = [way[0] for way in hill[0]]
     found = [shut]
     last = [shut]
     for count in range(left):
-        last = sorted({more for some in last for more in with_one_more(names, some)})
+        last = sorted({more for some in last for more in with_one_more(hill, some)})
         found.extend(last)
     return found
 
 
-def bounds_with(hill, tables):
-    """A dict: to each place the latest moment told in all tables, none where one of them tells of none."""
+def bounds_of(hill, tables, shut):
+    """A dict: to each place the latest moment at which one there is safe whichever one way more is shut.
+
+    Till dark where the tables tell of no more shut ones; no moment of places where one is safe at none.
+    """
     bounds = unbound(hill)
-    for table in tables:
-        bounds = {place: min(bounds[place], table[place]) for place in bounds if place in table}
+    for more in with_one_more(hill, shut):
+        if more in tables:
+            table = tables[more]
+            bounds = {place: min(bounds[place], table[place]) for place in bounds if place in table}
     return bounds
 
 
@@ -35,11 +39,9 @@ def safe_tables(hill, going, shut, left):
     also if any one more is shut. A way shut earlier, while they wait or go, is shut no worse then.
     """
     tables = {}
-    names = [way[0] for way in hill[0]]
     for some in reversed(with_more(hill, shut, left)):
         still = [row for row in going if row[0] not in some]
-        further = [tables[more] for more in with_one_more(names, some) if more in tables]
-        tables[some] = homeward(hill, still, bounds_with(hill, further))
+        tables[some] = homeward(hill, still, bounds_of(hill, tables, some))
     return tables
 
 

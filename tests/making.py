@@ -158,3 +158,15 @@ def some_busy_cases(seed, many, most_dark=8, most_ways=6, most_pages=4):
         dark, ways, spots = chance.randint(2, most_dark), chance.randint(1, most_ways), chance.choice((2, 3, 4))
         hill = some_busy_hill(chance, dark, ways, spots)
         yield chance, hill, some_pages(chance, hill, chance.randint(0, most_pages))
+
+
+def some_starts(chance, hill, many, spots):
+    """Starts of a crowd, many of them alike or late."""
+    starts = []
+    for _ in range(many):
+        late = max(0, hill[2] - chance.randint(0, 6))
+        if starts and chance.random() < 0.6:
+            starts.append(chance.choice(starts))
+        else:
+            starts.append((chance.choice(spots), chance.choice((late, late, late, chance.randint(0, hill[2])))))
+    return tuple(starts)

@@ -258,3 +258,69 @@ class Game:
         names = sorted(part[0] for part in self.of[0])
         tuples = [shut for many in range(left + 1) for shut in itertools.combinations(names, many)]
         return tuple((shut, self.latest(shut, left - len(shut))) for shut in tuples)
+
+
+def crowd_walks(of, pages, goer, starts, walks):
+    """Whether these are walks home, or None, of the starts, no two of which enter one way at one moment."""
+    if type(walks) is not tuple or len(walks) != len(starts):
+        return False
+    for (place, t), steps in zip(starts, walks):
+        if steps is not None and not shows_walk(of, pages, goer, place, t, of[1], of[2], steps):
+            return False
+    entered = [part for steps in walks if steps is not None for part in steps]
+    return all(entered.count(part) == 1 for part in entered)
+
+
+def crowd_cut(of, days, goer, starts, cut):
+    """Whether nobody else comes home without the departures, each way letting in all."""
+    number, going = between(0, len(starts) - 1), lambda part: departure(of, part)
+    if not row(cut, lambda part: rising(number, part), lambda part: rising(going, part)):
+        return False
+    given, departures = cut
+    fewer = [tuple(w for w in names if (w, m) not in departures) for m, names in enumerate(days)]
+    others = [start for at, start in enumerate(starts) if at not in given]
+    return not any(of[1] in dict(arrivals(of, fewer, goer, place, t)) for place, t in others)
+
+
+def rising(test, thing):
+    if type(thing) is not tuple or not all(test(part) for part in thing):
+        return False
+    return all(one < other for one, other in zip(thing, thing[1:]))
+
+
+def shows_crowd(of, pages, days, goer, starts, thing):
+    if type(thing) is not tuple or len(thing) != 2 or not crowd_walks(of, pages, goer, starts, thing[0]):
+        return False
+    if not crowd_cut(of, days, goer, starts, thing[1]):
+        return False
+    return len([steps for steps in thing[0] if steps is not None]) == len(thing[1][0]) + len(thing[1][1])
+
+
+def walks_home(of, days, goer, place, t):
+    """All walks home, as sets of departures, that go nowhere from home."""
+    if place == of[1]:
+        return [frozenset()]
+    found = []
+    for part in of[0]:
+        for m in range(t, of[2] + 1):
+            end = m + pace_of(part, goer)
+            if part[2] == place and m < end <= of[2] and part[0] in days[m]:
+                found += [more | {(part[0], m)} for more in walks_home(of, days, goer, part[3], end)]
+    return found
+
+
+def most_home(of, days, goer, starts):
+    """How many of the starts come home at most, by all choices of walks."""
+    choices = [walks_home(of, days, goer, place, t) for place, t in starts]
+    choices = [[one for one in some if not any(other < one for other in some)] for some in choices]
+    known = {}
+
+    def most(at, entered):
+        if at == len(choices):
+            return 0
+        if (at, entered) not in known:
+            free = [one for one in choices[at] if not one & entered]
+            known[(at, entered)] = max([most(at + 1, entered)] + [1 + most(at + 1, entered | one) for one in free])
+        return known[(at, entered)]
+
+    return most(0, frozenset())
