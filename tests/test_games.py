@@ -144,19 +144,14 @@ class Compared(unittest.TestCase):
         self.assertTrue(all(m <= dict(other).get(place, -1) for place, m in one), (one, other))
 
     def falls(self, hill, book, goer):
-        rows = [dict(safe(hill, book, goer, left)) for left in (0, 1, 2)]
-        for left, shut in ((1, ()), (2, ())):
-            self.no_later(rows[left][shut], rows[left - 1][shut])
-        for shut in rows[1]:
-            self.no_later(rows[2][shut], rows[1][shut])
-        for one, other in itertools.product(rows[2], rows[2]):
-            if set(one) < set(other) and len(other) - len(one) == 1:
-                # One way more is shut, and one less let in: no earlier. With as many let in: no later.
-                self.no_later(rows[2][one], rows[2][other])
-        for shut in rows[1]:
-            if shut:
-                self.no_later(rows[1][shut], rows[0][()])
-                self.no_later(rows[2][shut], rows[1][()])
+        # told[(shut, more)]: where these are shut already and so many more are let in.
+        told = {(shut, left - len(shut)): pairs for left in (0, 1, 2) for shut, pairs in safe(hill, book, goer, left)}
+        for one, other in itertools.product(told, told):
+            if set(one[0]) >= set(other[0]) and one[1] >= other[1]:
+                self.no_later(told[one], told[other])
+            if set(one[0]) < set(other[0]) and one[1] >= other[1] + len(other[0]) - len(one[0]):
+                # What is let in may be shut at once, so it is no later than where it is shut already.
+                self.no_later(told[one], told[other])
 
     def test_more_shut_or_let_in_is_no_later(self):
         for chance, hill, pages in list(some_busy_cases("falls", 40)) + list(some_cases("far falls", 15)):
