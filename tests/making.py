@@ -170,3 +170,37 @@ def some_starts(chance, hill, many, spots):
         else:
             starts.append((chance.choice(spots), chance.choice((late, late, late, chance.randint(0, hill[2])))))
     return tuple(starts)
+
+
+def some_looks(chance, hill, many):
+    """Looks at slopes that have a pace, some alike; none on a hill without such a slope."""
+    slopes = [way[0] for way in hill[0] if way[1] == "slope" and way[4] + way[5] > 0]
+    looks = []
+    for _ in range(many if slopes else 0):
+        if looks and chance.random() < 0.1:
+            looks.append(chance.choice(looks))
+        else:
+            looks.append((chance.choice(slopes), chance.randint(0, hill[2])))
+    return tuple(looks)
+
+
+def some_hanging_rule(chance, hill, kind):
+    """A rule that hangs on reads, looks or another way."""
+    word = chance.choice(("least", "most", "with") + (("looked",) * 4 if kind == "slope" else ()))
+    if word == "looked":
+        return (word, chance.randint(1, hill[2]))
+    if word == "with":
+        return (word, chance.choice(hill[0])[0])
+    return (word, chance.choice(POSTS), chance.randint(-2, 2))
+
+
+def some_hanging_cases(seed, many, most_dark=12):
+    """Tuples (chance, hill, pages): nearly each way has one rule from the first moment on, of reads, looks or ways."""
+    chance = random.Random(seed)
+    for _ in range(many):
+        hill = some_hill(chance, chance.randint(2, most_dark), chance.randint(2, 7))
+        pages = some_pages(chance, hill, chance.randint(0, 4))
+        for at, (name, kind, *_) in enumerate(hill[0]):
+            if chance.random() < 0.8:
+                pages.append(("rule", 300 + at, 0, name, (some_hanging_rule(chance, hill, kind),)))
+        yield chance, hill, pages

@@ -86,8 +86,9 @@ class Form(unittest.TestCase):
 
     def test_names(self):
         for name, text in bound_names():
-            self.assertFalse(hasattr(builtins, text), (name, text))
-            self.assertTrue(text.isascii() and (not text.startswith("_") or text == "__init__"), (name, text))
+            if text != "__init__":
+                self.assertFalse(hasattr(builtins, text), (name, text))
+                self.assertTrue(text.isascii() and not text.startswith("_"), (name, text))
             self.assertNotIn(text, NOT_USED, name)
         for name, node in nodes(ast.Name):
             self.assertTrue(not hasattr(builtins, node.id) or node.id in OWN_NAMES, (name, node.id))
@@ -98,6 +99,15 @@ class Form(unittest.TestCase):
         self.assertEqual(given & own, set())
         for name, node in nodes(ast.Attribute):
             self.assertIn(node.attr, METHODS | given | own, (name, node.lineno))
+
+    def test_classes(self):
+        tops = [node for _, tree in trees() for node in tree.body if isinstance(node, ast.ClassDef)]
+        self.assertEqual([node.name for node in tops], [node.name for _, node in nodes(ast.ClassDef)])
+        for node in tops:
+            self.assertEqual((node.decorator_list, node.keywords), ([], []))
+            self.assertLessEqual(len(node.bases), 1)
+            for row in node.body:
+                self.assertTrue(isinstance(row, ast.FunctionDef) or ast.get_docstring(node) and row == node.body[0])
 
     def test_imports(self):
         drawn = {}
