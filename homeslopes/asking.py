@@ -1,8 +1,9 @@
 """Asking: what an asking must hold, each refused by an error of its own, of anything."""
 
 from homeslopes.errors import NoGoer, NoMoment, NoNumber, NoPlace, NoWay
-from homeslopes.hills import is_name, is_within, places
-from homeslopes.pages import is_way_name
+from homeslopes.hills import is_name, is_within, places, way_named
+from homeslopes.pages import is_slope_name, is_way_name
+from homeslopes.patrols import patrol_pace
 from homeslopes.spanning import outlook
 
 GOERS = ("walker", "rider")
@@ -44,3 +45,9 @@ def asked_outlook(hill, book, w, t):
     need_way(hill, w)
     need_moment(hill, t)
     return outlook(hill, book, w, t)
+
+
+def need_look(hill, thing):
+    """Refuse what is no name of a slope that a patrol can look at."""
+    if not is_slope_name(hill, thing) or patrol_pace(way_named(hill, thing)) == 0:
+        raise NoWay("this is no slope that has a pace")
